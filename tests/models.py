@@ -1,6 +1,9 @@
 """Works for the tests to look at, and plain models of what the document says of them."""
 
-from itertools import combinations
+from fractions import Fraction
+from functools import lru_cache
+from itertools import combinations, product
+from random import Random
 
 from things import many_parts, works_text
 
@@ -69,3 +72,129 @@ def least_ones(many, meets):
         if meets(bits) and not any(other & bits == other for other in found):
             found.append(bits)
     return tuple(found)
+
+
+def pair_of(number):
+    """Tell the share that a number is."""
+    return (Fraction(number).numerator, Fraction(number).denominator)
+
+
+def set_odds(works, odds, failed):
+    """Tell the odds that just the parts of these names fail by themselves."""
+    told = Fraction(1)
+    for part, one in zip(works[0], odds):
+        told *= Fraction(*one) if part[0] in failed else 1 - Fraction(*one)
+    return told
+
+
+def top_odds(works, odds):
+    """Tell the share that the odds of the top are, by all sets of parts."""
+    sets = [names_in(works, bits) for bits in range(2 ** len(works[0]))]
+    return pair_of(sum(set_odds(works, odds, failed) for failed in sets if stops(works, failed)))
+
+
+def tree_falls(tree, bits):
+    """Tell whether the top of a tree falls where just the parts of a set fail by themselves."""
+    many, rows, brought = tree
+
+    def fails(at):
+        if at < many:
+            return any(bits & 2 ** i and brought[i] & 2 ** at for i in range(many))
+        return sum(fails(child) for child in rows[at][2]) >= rows[at][1]
+
+    return fails(len(rows) - 1)
+
+
+def tree_odds(tree, odds):
+    """Tell the share that the odds of the top of a tree are, by all sets of parts."""
+    total = Fraction(0)
+    for bits in range(2 ** tree[0]):
+        if tree_falls(tree, bits):
+            told = Fraction(1)
+            for i, one in enumerate(odds):
+                told *= Fraction(*one) if bits & 2 ** i else 1 - Fraction(*one)
+            total += told
+    return pair_of(total)
+
+
+def tree_weight(tree, odds, i):
+    """Tell the share that the weight of part i of a tree is."""
+    failing, holding = [
+        Fraction(*tree_odds(tree, odds[:i] + (one,) + odds[i + 1:])) for one in ((1, 1), (0, 1))
+    ]
+    return pair_of(failing - holding)
+
+
+def closed(brought):
+    """Tell what each part brings, with all that these bring in turn."""
+    told = list(brought)
+    for _ in told:
+        for i, bits in enumerate(told):
+            for other, more in enumerate(told):
+                if bits & 2 ** other:
+                    told[i] |= more
+    return tuple(told)
+
+
+def mixed_trees(many, most=6):
+    """Tell so many trees of at most so many parts, and odds of their parts, the same ones each time."""
+    chance = Random(many + most)
+    told = []
+    for _ in range(many):
+        parts = chance.randint(1, most)
+        rows = [("part", i) for i in range(parts)]
+        for _ in range(chance.randint(0, 6)):
+            children = tuple(chance.sample(range(len(rows)), chance.randint(1, min(4, len(rows)))))
+            rows.append(("least", chance.randint(1, len(children)), children))
+        pairs = chance.choice((0, 0, 1, 2, 4))
+        brought = [2 ** i for i in range(parts)]
+        for _ in range(pairs):
+            brought[chance.randrange(parts)] |= 2 ** chance.randrange(parts)
+        odds = []
+        for _ in range(parts):
+            among = chance.choice((1, 2, 3, 5, 7, 1000))
+            odds.append(pair_of(Fraction(chance.randint(0, among), among)))
+        told.append(((parts, tuple(rows), closed(brought)), tuple(odds)))
+    return told
+
+
+def ways(works, i):
+    """Tell the prices and odds at which part i may be had."""
+    name, number, among = works[0][i]
+    own = Fraction(number, among)
+    told = [(0, pair_of(own))]
+    told += [(row[3], pair_of(Fraction(row[1], row[2]))) for row in works[1] if row[0] == name]
+    for row in works[2]:
+        if row[0] == name:
+            told += [(row[1] * many, pair_of(own ** (many + 1))) for many in range(1, row[2] + 1)]
+    return tuple(told)
+
+
+def all_choices(works):
+    """Tell all choices, each with its price and odds."""
+    told = []
+    for picked in product(*[list(enumerate(ways(works, i))) for i in range(len(works[0]))]):
+        price = sum(way[0] for _, way in picked)
+        told.append((tuple(c for c, _ in picked), price, tuple(way[1] for _, way in picked)))
+    return told
+
+
+@lru_cache(maxsize=None)
+def priced_odds(works):
+    """Tell of all choices the price and the top's odds."""
+    many = len(works[0])
+    stopping = [int(stops(works, names_in(works, bits))) for bits in range(2 ** many)]
+    told = []
+    for _, price, odds in all_choices(works):
+        found = stopping
+        for one in odds[::-1]:
+            half = len(found) // 2
+            share = Fraction(*one)
+            found = [low + share * (high - low) for low, high in zip(found[:half], found[half:])]
+        told.append((price, found[0]))
+    return told
+
+
+def least_price(works, limit):
+    """Tell the least price at which the top's odds are no more than the limit, None where no choices do."""
+    return min((price for price, odds in priced_odds(works) if odds <= Fraction(*limit)), default=None)
