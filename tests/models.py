@@ -125,6 +125,30 @@ def tree_weight(tree, odds, i):
     return pair_of(failing - holding)
 
 
+def below(tree, at):
+    """Tell the numbers of the rows below a row of a tree."""
+    told = set()
+    if tree[1][at][0] == "least":
+        for child in tree[1][at][2]:
+            told |= {child} | below(tree, child)
+    return told
+
+
+def gates_alone(tree):
+    """Tell the numbers of the rows of the gates that are alone, as point 100 tells it."""
+    many, rows, brought = tree
+    told = []
+    for at in range(many, len(rows)):
+        under = below(tree, at)
+        asked_within = all(
+            number == at or number in under for number in range(many, len(rows)) if under & set(rows[number][2])
+        )
+        pairs = [(i, j) for i in range(many) for j in range(many) if brought[i] & 2 ** j]
+        if asked_within and all((i in under) == (j in under) for i, j in pairs):
+            told.append(at)
+    return tuple(told)
+
+
 def closed(brought):
     """Tell what each part brings, with all that these bring in turn."""
     told = list(brought)
