@@ -89,7 +89,7 @@ def tree_for(questions, counts, bits):
 
 def is_too_many(bits, count):
     """Tell whether a set has more parts than so many answers can tell apart."""
-    # No set has more parts than as many questions as there are parts tell apart, so no great number is made.
+    # So many questions tell any set's parts apart; a greater count would make a number without bounds.
     return many_in(bits) > 1 << min(count, MOST_PARTS)
 
 
